@@ -1,0 +1,65 @@
+"""Values that several tests use."""
+
+from itertools import product
+
+from widthrules.errors import WidthError
+
+SIGNS = ("symmetric", "twos", "unsigned")
+OVERFLOWS = ("saturate", "trap", "wrap")
+DIVISIONS = ("ceiling", "euclid", "even", "floor", "zero")
+
+NOT_WIDTHS = (3, 65, 0, -4, 10 ** 60, True, False, "8", None, (8,), [8], {8: 8})
+
+NOT_WORDS = (
+    "Wrap", "Twos", "Zero", "wrap ", "", "wra", None, True, False, 0, 1, 8,
+    (), ("wrap",), ("twos",), ("zero",), [], ["wrap"], ["twos"], ["zero"], {}, {"wrap": "wrap"},
+)
+
+NOT_INTEGERS = (True, False, None, "", "1", "trap", (), (1,), [], [1], {}, {1: 1}, WidthError("1"))
+
+
+def formats(widths):
+    """Return all formats of these widths."""
+    return list(product(widths, SIGNS, OVERFLOWS, DIVISIONS))
+
+
+def bounds(form):
+    """Return the least and the greatest number of a format, by the document's formulas."""
+    width, signs, _, _ = form
+    if signs == "twos":
+        return -2 ** (width - 1), 2 ** (width - 1) - 1
+    if signs == "symmetric":
+        return -(2 ** (width - 1) - 1), 2 ** (width - 1) - 1
+    return 0, 2 ** width - 1
+
+
+def fitted(form, exact):
+    """Return the result of a small format for an exact integer, by the document's words."""
+    low, high = bounds(form)
+    if low <= exact <= high:
+        return exact
+    if form[2] == "trap":
+        return "trap"
+    if form[2] == "saturate":
+        return low if exact < low else high
+    count = len(range(low, high + 1))
+    (number,) = [n for n in range(low, high + 1) if (n - exact) % count == 0]
+    return number
+
+
+def not_formats():
+    """Return values that are no formats, new ones for each call."""
+    good = (8, "twos", "wrap", "zero")
+    values = [
+        None, True, False, 0, 8, -1, 10 ** 60, "", "8 twos wrap zero", "twos", {}, {8: good},
+        dict(enumerate(good)), (), [], list(good), [good], (good,), WidthError("8"),
+        good[:3], good[1:], good + ("zero",), (8,) + good,
+        ("twos", 8, "wrap", "zero"), (8, "wrap", "twos", "zero"), (8, "twos", "zero", "wrap"),
+        (8, "zero", "wrap", "twos"), good[::-1],
+    ]
+    values.extend((width,) + good[1:] for width in NOT_WIDTHS)
+    for word in NOT_WORDS:
+        values.append((8, word, "wrap", "zero"))
+        values.append((8, "twos", word, "zero"))
+        values.append((8, "twos", "wrap", word))
+    return values

@@ -1,0 +1,1 @@
+"""Which rules of integer arithmetic hold in which machine integer formats."""
