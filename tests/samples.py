@@ -17,6 +17,14 @@ NOT_WORDS = (
 
 NOT_INTEGERS = (True, False, None, "", "1", "trap", (), (1,), [], [1], {}, {1: 1}, WidthError("1"))
 
+# The names of the rules in the document's order, and for how many numbers each is told.
+RULES = (
+    ("sum grouping", 3), ("product grouping", 3), ("distribution", 3), ("double negation", 1),
+    ("difference", 2), ("add back", 2), ("division", 2), ("remainder range", 2),
+    ("negated quotient", 2), ("shift", 1), ("absolute value", 1), ("order by difference", 2),
+    ("monotone sum", 3), ("average", 2), ("square", 1), ("zero product", 2), ("cancellation", 3),
+)
+
 
 def formats(widths):
     """Return all formats of these widths."""
@@ -62,4 +70,16 @@ def not_formats():
         values.append((8, word, "wrap", "zero"))
         values.append((8, "twos", word, "zero"))
         values.append((8, "twos", "wrap", word))
+    return values
+
+
+def not_rules():
+    """Return values that are not the name of a rule, new ones for each call."""
+    values = [
+        "", " ", "shift ", " shift", "shif", "sum  grouping", "sum_grouping", "sumgrouping",
+        "grouping", "sum", "rule", "trap", None, True, False, 0, 1, 3, -1, 10 ** 60,
+        (), ("shift",), [], ["shift"], {}, {"shift": 1}, (("shift",),), WidthError("shift"),
+    ]
+    for name, many in RULES:
+        values.extend([name.upper(), name.title(), name.capitalize(), name + "s", (name, many)])
     return values

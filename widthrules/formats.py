@@ -26,34 +26,39 @@ def check_format(form):
         raise BadFormat("not a format")
 
 
+def ends(form):
+    """Return the least and the greatest number of a format that is checked already."""
+    width = form[0]
+    signs = form[1]
+    if signs == "unsigned":
+        return 0, (1 << width) - 1
+    half = 1 << (width - 1)
+    return (-half if signs == "twos" else 1 - half), half - 1
+
+
 def lowest(form):
     """Return the least number of a format."""
     check_format(form)
-    width = form[0]
-    signs = form[1]
-    if signs == "twos":
-        return -(1 << (width - 1))
-    if signs == "symmetric":
-        return -highest(form)
-    return 0
+    low, _ = ends(form)
+    return low
 
 
 def highest(form):
     """Return the greatest number of a format."""
     check_format(form)
-    width = form[0]
-    signs = form[1]
-    if signs == "unsigned":
-        return (1 << width) - 1
-    return (1 << (width - 1)) - 1
+    _, high = ends(form)
+    return high
 
 
 def count_numbers(form):
     """Return how many numbers a format has."""
-    return highest(form) - lowest(form) + 1
+    check_format(form)
+    low, high = ends(form)
+    return high - low + 1
 
 
 def is_number(form, value):
     """Return whether a value is a number of a format."""
     check_format(form)
-    return is_whole(value) and lowest(form) <= value <= highest(form)
+    low, high = ends(form)
+    return is_whole(value) and low <= value <= high
