@@ -98,3 +98,8 @@ def numbers_by_the_document(form, rule):
     if "p" in told:
         known["p"] = next(p for p in range(2, whole + 1) if whole % p == 0)
     return eval(told, known)
+
+
+def profile_by_the_document(form):
+    """Return the rules, in the document's order, of which one case is that of a format."""
+    return tuple(rule for rule in HOLDING if holds_by_the_document(form, rule))

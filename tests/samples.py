@@ -17,6 +17,23 @@ NOT_WORDS = (
 
 NOT_INTEGERS = (True, False, None, "", "1", "trap", (), (1,), [], [1], {}, {1: 1}, WidthError("1"))
 
+NOT_TEXTS = (
+    None, True, False, 0, 1, 8, -1, 10 ** 60, (), ("show",), ("8 twos wrap zero",),
+    (8, "twos", "wrap", "zero"), [], ["show"], ["8 twos wrap zero"], {}, {"show": "show"},
+    WidthError("show"),
+)
+
+# Texts that do not write an integer, or not in the one way in which the document writes it.
+NOT_WRITTEN_INTEGERS = (
+    "", "-", "+", "+1", "+0", "01", "00", "007", "-0", "-00", "-01", "--1", "-+1", "+-1", "1-", "1+",
+    "1.0", "1.", ".5", "1e3", "1_0", "1,000", "_1", "1_", "0x1", "0b1", "1L", "x", "one", "trap",
+    "None", "True", "show", "(1)", "1/2", " 1", "1 ", "  1", "- 1", "1 2", "1 1", "1\n", "\n1",
+    "\t1", "1\t", "1\r", "1\x00", "\u00a01", "1\u2003", "1" * 31, "-" + "1" * 31, "1" + "0" * 30,
+    "0" * 31, "0" * 30 + "1", "0" * 29 + "1", "9" * 5000, "-" + "9" * 5000, "0" * 5000,
+    "\u0661", "\u0968", "\uff11", "\u00b9", "\u00b2", "\u2460", "\u2081", "\U0001d7cf", "-\uff11",
+    "1\u0661", "\u22121", "\uff0d1", "\ud800",
+)
+
 # The names of the rules in the document's order, and for how many numbers each is told.
 RULES = (
     ("sum grouping", 3), ("product grouping", 3), ("distribution", 3), ("double negation", 1),

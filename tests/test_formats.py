@@ -4,7 +4,9 @@ import unittest
 from examples import run_examples
 from samples import NOT_INTEGERS, NOT_WIDTHS, NOT_WORDS, bounds, formats, not_formats
 from widthrules.errors import BadFormat
-from widthrules.formats import count_numbers, highest, is_format, is_number, lowest
+from widthrules.formats import (
+    all_formats, count_numbers, highest, is_format, is_number, lowest,
+)
 
 EXAMPLES = """
 >>> from widthrules.formats import count_numbers, highest, is_format, is_number, lowest
@@ -73,6 +75,11 @@ class IsFormat(unittest.TestCase):
         self.assertIs(is_format((8, "wrap", "twos", "zero")), False)
         self.assertIs(is_format((8, "twos", "zero", "wrap")), False)
         self.assertIs(is_format(("zero", "wrap", "twos", 8)), False)
+
+    def test_all_formats_ascend(self):
+        found = all_formats()
+        self.assertEqual(found, sorted(formats(range(4, 65))))
+        self.assertTrue(all(is_format(form) for form in found))
 
     def test_no_other_value_is_a_format(self):
         for value in not_formats():

@@ -25,6 +25,14 @@ BUILTINS = (
     "NotImplementedError AttributeError StopIteration NotImplemented"
 ).split()
 
+METHODS = (
+    "append clear copy count endswith extend find get index insert isalnum isalpha isdigit islower "
+    "isspace isupper items join keys ljust lower lstrip partition pop remove replace reverse rfind "
+    "rjust rpartition rsplit rstrip setdefault split splitlines startswith strip update upper values "
+    "zfill bit_length title capitalize swapcase casefold center expandtabs removeprefix removesuffix "
+    "rindex isascii isdecimal isnumeric istitle isidentifier isprintable add discard"
+).split()
+
 
 def sources():
     """Return the name and the text of each file of the package."""
@@ -79,6 +87,12 @@ class Language(unittest.TestCase):
         for name, node in nodes((ast.FunctionDef, ast.ClassDef)):
             if not node.name.startswith("__"):
                 self.assertFalse(hasattr(builtins, node.name), (name, node.name))
+
+    def test_methods_that_are_called(self):
+        own = [node.name for _, node in nodes(ast.FunctionDef)]
+        for name, node in nodes(ast.Call):
+            if isinstance(node.func, ast.Attribute):
+                self.assertIn(node.func.attr, METHODS + own, (name, node.lineno))
 
     def test_exponents_floats_and_decorators(self):
         for name, node in nodes(ast.BinOp):

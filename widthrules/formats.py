@@ -17,7 +17,29 @@ def is_format(value):
     width, signs, overflow, division = value
     if not is_whole(width) or not LEAST_WIDTH <= width <= GREATEST_WIDTH:
         return False
+    return are_choices(signs, overflow, division)
+
+
+def are_choices(signs, overflow, division):
+    """Return whether these are values that formats have behind their widths."""
     return signs in SIGNS and overflow in OVERFLOWS and division in DIVISIONS
+
+
+def all_widths():
+    """Return the widths that formats have, ascending."""
+    return list(range(LEAST_WIDTH, GREATEST_WIDTH + 1))
+
+
+def all_formats():
+    """Return all formats, ascending."""
+    # The words stand in ascending order above, so nothing is left to sort here.
+    return [
+        (width, signs, overflow, division)
+        for width in all_widths()
+        for signs in SIGNS
+        for overflow in OVERFLOWS
+        for division in DIVISIONS
+    ]
 
 
 def check_format(form):

@@ -53,6 +53,12 @@ def remainder(form, a, b):
     return rest(terms_of(form), a, b)
 
 
+def operate(form, name, a, b):
+    """Return the result of the operation of this name on two numbers."""
+    operation = OPERATIONS[name]
+    return operation(form, a, b)
+
+
 def _check_number(form, value):
     """Raise BadFormat for what is no format, BadNumber for what is no number of it."""
     if not is_number(form, value):
@@ -65,3 +71,12 @@ def _check_division(form, a, b):
     _check_number(form, b)
     if b == 0:
         raise NotMade("there is no division by 0")
+
+
+OPERATIONS = {
+    "add": add,
+    "subtract": subtract,
+    "multiply": multiply,
+    "divide": divide,
+    "remainder": remainder,
+}

@@ -47,9 +47,14 @@ def holds_for(form, rule, numbers):
     return check(terms, *numbers)
 
 
+def is_rule(value):
+    """Return whether a value is the name of a rule."""
+    return isinstance(value, str) and value in ARITIES
+
+
 def check_rule(rule):
     """Raise BadRule for any value that is not the name of a rule."""
-    if not isinstance(rule, str) or rule not in ARITIES:
+    if not is_rule(rule):
         raise BadRule("not the name of a rule")
 
 
